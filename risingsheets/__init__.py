@@ -1,0 +1,1 @@
+"""Risingsheets: printed timetables whose rows and columns rise."""

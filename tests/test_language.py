@@ -1,0 +1,156 @@
+"""The rules of ../shared/LANGUAGE.md that a look at the files of the package can check."""
+
+import ast
+import builtins
+import unittest
+from pathlib import Path
+
+PACKAGE = Path(__file__).parent.parent / "risingsheets"
+FILES = sorted(PACKAGE.rglob("*.py"))
+
+BUILTINS = """len range enumerate zip min max sum abs sorted reversed int str bool list tuple dict set isinstance ord repr
+any all divmod map ValueError""".split()
+
+METHODS = """append clear copy count endswith extend find get index insert isalnum isalpha isdigit islower isspace isupper
+items join keys ljust lower lstrip partition pop remove replace reverse rfind rjust rpartition rsplit rstrip setdefault
+split splitlines startswith strip update upper values zfill bit_length add discard""".split()
+
+BARRED_WORDS = """type typing typing_extensions enum Enum IntEnum StrEnum Flag IntFlag Generic Protocol ABC ABCMeta
+namedtuple NamedTuple TypedDict TYPE_CHECKING abstractmethod register mro elements open input law version_info""".split()
+
+BARRED_NODES = (
+    ast.GeneratorExp, ast.Yield, ast.YieldFrom, ast.Await, ast.AsyncFunctionDef, ast.AsyncFor, ast.AsyncWith, ast.Global,
+    ast.Div, ast.MatMult, ast.Import, ast.TryStar, ast.AnnAssign,
+)
+
+
+def read(file):
+    return file.read_text(encoding="ascii")
+
+
+def nodes_of(file):
+    return list(ast.walk(ast.parse(read(file))))
+
+
+def imports_of(file):
+    """The modules of the package that a file imports from."""
+    return [node.module for node in nodes_of(file) if isinstance(node, ast.ImportFrom)]
+
+
+class TestFiles(unittest.TestCase):
+
+    def test_the_package_holds_files_of_code_alone(self):
+        held = [path for path in PACKAGE.rglob("*") if "__pycache__" not in path.parts]
+        self.assertEqual(sorted(path for path in held if path.is_file()), FILES)
+        self.assertIn(PACKAGE / "__init__.py", FILES)
+        self.assertEqual([path.name for path in FILES if path.name != path.name.lower()], [])
+
+    def test_sizes_and_signs(self):
+        for file in FILES:
+            lines = read(file).split("\n")
+            self.assertLessEqual(len(lines), 399, file)
+            for line in lines:
+                self.assertLessEqual(len(line), 120, (file, line))
+                self.assertTrue(all(" " <= sign <= "~" for sign in line), (file, line))
+
+    def test_sizes_of_functions(self):
+        for file in FILES:
+            for node in nodes_of(file):
+                if isinstance(node, ast.FunctionDef):
+                    self.assertLessEqual(node.end_lineno - node.lineno + 1, 40, (file, node.name))
+
+
+class TestImports(unittest.TestCase):
+
+    def test_imports_are_from_files_of_the_package(self):
+        names = ["risingsheets." + file.stem for file in FILES]
+        for file in FILES:
+            for node in nodes_of(file):
+                if isinstance(node, ast.ImportFrom):
+                    self.assertIn(node.module, names, file)
+                    self.assertEqual(node.level, 0, file)
+                    self.assertEqual([name.asname for name in node.names if name.asname], [], file)
+
+    def test_names_are_imported_from_the_file_that_defines_them(self):
+        for file in FILES:
+            for node in nodes_of(file):
+                if isinstance(node, ast.ImportFrom):
+                    source = ast.parse(read(PACKAGE / (node.module.split(".")[1] + ".py")))
+                    made = [step.name for step in source.body if isinstance(step, (ast.FunctionDef, ast.ClassDef))]
+                    made += [step.targets[0].id for step in source.body if isinstance(step, ast.Assign)]
+                    for name in node.names:
+                        self.assertIn(name.name, made, file)
+
+    def test_no_two_files_import_from_each_other(self):
+        left = {"risingsheets." + file.stem: imports_of(file) for file in FILES}
+        while left:
+            free = [name for name in left if not [module for module in left[name] if module in left]]
+            self.assertTrue(free, left)
+            for name in free:
+                del left[name]
+
+    def test_no_import_is_idle(self):
+        for file in FILES:
+            used = [node.id for node in nodes_of(file) if isinstance(node, ast.Name)]
+            for node in nodes_of(file):
+                if isinstance(node, ast.ImportFrom):
+                    for name in node.names:
+                        self.assertIn(name.name, used, file)
+
+
+class TestCode(unittest.TestCase):
+
+    def test_no_barred_kind_of_code(self):
+        for file in FILES:
+            for node in nodes_of(file):
+                self.assertNotIsInstance(node, BARRED_NODES, file)
+                for decorator in getattr(node, "decorator_list", []):
+                    self.assertIn(ast.unparse(decorator), ("property", "staticmethod", "classmethod"), file)
+                if isinstance(node, ast.Constant):
+                    self.assertNotIsInstance(node.value, (float, complex, bytes), file)
+
+    def test_module_level_holds_plain_things(self):
+        allowed = (ast.ImportFrom, ast.FunctionDef, ast.ClassDef, ast.Assign)
+        for file in FILES:
+            body = ast.parse(read(file)).body
+            self.assertIsNotNone(ast.get_docstring(ast.parse(read(file))), file)
+            for step in body[1:]:
+                self.assertIsInstance(step, allowed, file)
+
+    def test_strings(self):
+        for file in FILES:
+            for node in nodes_of(file):
+                if isinstance(node, ast.Constant) and isinstance(node.value, str):
+                    self.assertNotIn("%", node.value, file)
+                if isinstance(node, ast.JoinedStr):
+                    self.assertNotIn("%", ast.get_source_segment(read(file), node), file)
+
+    def test_builtins_and_names(self):
+        for file in FILES:
+            for node in nodes_of(file):
+                if isinstance(node, ast.Name):
+                    if node.id in dir(builtins):
+                        self.assertIn(node.id, BUILTINS, file)
+                        self.assertIsInstance(node.ctx, ast.Load, file)
+                    self.assertNotIn(node.id, BARRED_WORDS, file)
+                if isinstance(node, (ast.FunctionDef, ast.ClassDef)):
+                    self.assertNotIn(node.name, dir(builtins), file)
+                if isinstance(node, ast.arg):
+                    self.assertNotIn(node.arg, dir(builtins) + BARRED_WORDS, file)
+
+    def test_methods_of_builtin_values(self):
+        own = [node.name for file in FILES for node in nodes_of(file) if isinstance(node, ast.FunctionDef)]
+        for file in FILES:
+            for node in nodes_of(file):
+                if isinstance(node, ast.Call) and isinstance(node.func, ast.Attribute):
+                    self.assertIn(node.func.attr, METHODS + own, file)
+
+    def test_is_stands_beside_none_true_and_false(self):
+        for file in FILES:
+            for node in nodes_of(file):
+                if isinstance(node, ast.Compare) and isinstance(node.ops[0], (ast.Is, ast.IsNot)):
+                    self.assertIsInstance(node.comparators[0], ast.Constant, file)
+
+
+if __name__ == "__main__":
+    unittest.main()
