@@ -1,4 +1,8 @@
-"""What several modules need: kinds of values."""
+"""What several modules need: kinds of values, and numbers that stand in texts."""
+
+from risingsheets.errors import BadText
+
+FIGURES = "0123456789"
 
 
 def is_integer(value):
@@ -19,3 +23,16 @@ def is_tuple_of(value, many):
 def ascends(items):
     """Whether each item is less than the one behind it."""
     return all([low < high for low, high in zip(items, items[1:])])
+
+
+def read_number(text, most):
+    """The integer from 0 to most that text tells in decimal figures; BadText if it tells none."""
+    # Python turns no text of very many figures into a number, so the length is asked first.
+    if text == "" or len(text) > len(str(most)):
+        raise BadText()
+    if not all([sign in FIGURES for sign in text]):
+        raise BadText()
+    number = int(text)
+    if number > most or str(number) != text:
+        raise BadText()
+    return number

@@ -25,6 +25,13 @@ FUNCTIONS = {
         "plan_error": ["value"], "stations_of": ["plan"], "calls_at": ["plan", "name"],
         "train_of": ["plan", "number"], "minute_of": ["plan", "mark"],
     },
+    "days": {
+        "class_of": ["calendar", "day"], "days_of_class": ["calendar", "kind"],
+        "plain_expression": ["calendar", "days"], "expressed": ["calendar", "expression"],
+    },
+    "daytexts": {"days_text": ["calendar", "days"], "read_days": ["calendar", "value"]},
+    "clocks": {"clock_text": ["minute"], "read_clock": ["value"]},
+    "plantexts": {"plan_text": ["plan"], "read_plan": ["value"]},
 }
 
 

@@ -8,19 +8,20 @@ from pathlib import Path
 PACKAGE = Path(__file__).parent.parent / "risingsheets"
 FILES = sorted(PACKAGE.rglob("*.py"))
 
-BUILTINS = """len range enumerate zip min max sum abs sorted reversed int str bool list tuple dict set isinstance ord repr
-any all divmod map ValueError""".split()
+BUILTINS = """len range enumerate zip min max sum abs sorted reversed int str bool list tuple dict set isinstance ord
+repr any all divmod map ValueError""".split()
 
-METHODS = """append clear copy count endswith extend find get index insert isalnum isalpha isdigit islower isspace isupper
-items join keys ljust lower lstrip partition pop remove replace reverse rfind rjust rpartition rsplit rstrip setdefault
-split splitlines startswith strip update upper values zfill bit_length add discard""".split()
+METHODS = """append clear copy count endswith extend find get index insert isalnum isalpha isdigit islower isspace
+isupper items join keys ljust lower lstrip partition pop remove replace reverse rfind rjust rpartition rsplit rstrip
+setdefault split splitlines startswith strip update upper values zfill bit_length add discard""".split()
 
 BARRED_WORDS = """type typing typing_extensions enum Enum IntEnum StrEnum Flag IntFlag Generic Protocol ABC ABCMeta
-namedtuple NamedTuple TypedDict TYPE_CHECKING abstractmethod register mro elements open input law version_info""".split()
+namedtuple NamedTuple TypedDict TYPE_CHECKING abstractmethod register mro elements open input law
+version_info""".split()
 
 BARRED_NODES = (
-    ast.GeneratorExp, ast.Yield, ast.YieldFrom, ast.Await, ast.AsyncFunctionDef, ast.AsyncFor, ast.AsyncWith, ast.Global,
-    ast.Div, ast.MatMult, ast.Import, ast.TryStar, ast.AnnAssign,
+    ast.GeneratorExp, ast.Yield, ast.YieldFrom, ast.Await, ast.AsyncFunctionDef, ast.AsyncFor, ast.AsyncWith,
+    ast.Global, ast.Div, ast.MatMult, ast.Import, ast.TryStar, ast.AnnAssign,
 )
 
 

@@ -72,7 +72,8 @@ class TestAtoms(PlanErrors):
         self.tells(("call", 0, 0), with_calls((("\u00e4bel", 5),)), with_calls((("\u0430", 5),)))
 
     def test_numbers(self):
-        self.tells(None, with_numbers(1), with_numbers(2), with_numbers(9998), with_numbers(9999), with_numbers(1, 9999))
+        self.tells(None, with_numbers(1), with_numbers(2), with_numbers(9998), with_numbers(9999),
+                   with_numbers(1, 9999))
         self.tells(("number", 0), with_numbers(0), with_numbers(-1), with_numbers(10000), with_numbers(GREAT),
                    with_numbers(-GREAT), with_numbers(True), with_numbers("1"), with_numbers(None))
         self.tells(("number", 1), with_numbers(1, 10000), with_numbers(1, 0), with_numbers(9999, 10000),
@@ -83,7 +84,8 @@ class TestAtoms(PlanErrors):
                    with_calls((("abel", 2879),)), with_calls((("abel", 0), ("abel", 2879))))
         for minute in (-1, 2880, GREAT, -GREAT, False, True, "5", None, (5,)):
             self.tells(("call", 0, 0), with_calls((("abel", minute),)))
-        self.tells(("call", 0, 1), with_calls((("abel", 2879), ("bron", 2880))), with_calls((("abel", 0), ("b", GREAT))))
+        self.tells(("call", 0, 1), with_calls((("abel", 2879), ("bron", 2880))),
+                   with_calls((("abel", 0), ("b", GREAT))))
 
 
 class TestCalendars(PlanErrors):
@@ -103,7 +105,8 @@ class TestCalendars(PlanErrors):
     def test_holidays(self):
         for holidays in ((), (0,), (29,), (0, 29), (28, 29), tuple(range(30))):
             self.tells(None, with_calendar(0, 30, holidays))
-        self.tells(None, with_calendar(0, 1, (0,)), with_calendar(6, 400, (399,)), with_calendar(6, 400, tuple(range(400))))
+        self.tells(None, with_calendar(0, 1, (0,)), with_calendar(6, 400, (399,)),
+                   with_calendar(6, 400, tuple(range(400))))
         for holidays in ((30,), (0, 30), (-1,), (-1, 5), (5, 5), (5, 4), (3, 9, 9), (3, 9, 8), (1, 5, 3, 7), (GREAT,),
                          [], [5], (True,), (False,), (0, True), ("5",), (None,), (5, None), ((5,),), None, 5, "5", {}):
             self.tells("calendar", with_calendar(0, 30, holidays))
@@ -228,7 +231,8 @@ class TestAnyValue(PlanErrors):
 
     def test_one_item_more_or_fewer(self):
         self.tells("form", SMALL + (1,), SMALL + ((),), SMALL[:1], (), SMALL[::-1] + (1,))
-        self.tells("calendar", put(SMALL, (0,), WEEK + (1,)), put(SMALL, (0,), WEEK[:2]), put(SMALL, (0,), ()), SMALL[::-1])
+        self.tells("calendar", put(SMALL, (0,), WEEK + (1,)), put(SMALL, (0,), WEEK[:2]), put(SMALL, (0,), ()),
+                   SMALL[::-1])
         for place, train in enumerate(SMALL[1]):
             for wrong in (train + (1,), train + ((),), train[:2], train[:1], ()):
                 self.tells(("train", place), put(SMALL, (1, place), wrong))
