@@ -5,15 +5,17 @@ import unittest
 from tests.document import check_examples, examples
 
 
+# How many lines of code the examples of each part have.
+EXAMPLES = {"a": 9, "b": 28, "c": 25, "d": 24}
+
+
 class TestExamples(unittest.TestCase):
 
-    def test_part_a(self):
-        self.assertEqual(len(examples("document_a.txt")), 9)
-        check_examples(self, "document_a.txt")
-
-    def test_part_b(self):
-        self.assertEqual(len(examples("document_b.txt")), 28)
-        check_examples(self, "document_b.txt")
+    def test_each_part(self):
+        for part, many in EXAMPLES.items():
+            with self.subTest(part=part):
+                self.assertEqual(len(examples(f"document_{part}.txt")), many)
+                check_examples(self, f"document_{part}.txt")
 
 
 if __name__ == "__main__":

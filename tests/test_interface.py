@@ -32,6 +32,19 @@ FUNCTIONS = {
     "daytexts": {"days_text": ["calendar", "days"], "read_days": ["calendar", "value"]},
     "clocks": {"clock_text": ["minute"], "read_clock": ["value"]},
     "plantexts": {"plan_text": ["plan"], "read_plan": ["value"]},
+    "threads": {
+        "thread": ["plan", "kind", "name"], "cuts_error": ["plan", "value"], "heads": ["plan", "cuts"],
+        "part": ["plan", "cuts", "kind", "head"], "place_of": ["plan", "cuts", "mark"],
+        "ahead": ["plan", "cuts", "side"],
+    },
+    "rings": {
+        "ring_error": ["plan", "value"], "gaps_of": ["plan", "ring"], "lets_stand": ["plan", "cuts", "ring"],
+        "ring_of": ["plan", "cuts"],
+    },
+    "cutting": {
+        "cost": ["cuts", "price"], "are_good": ["plan", "cuts"], "least_cuts": ["plan", "price", "most"],
+    },
+    "trees": {"tree": ["plan", "price", "most"], "tree_holds": ["plan", "price", "most", "value"]},
 }
 
 

@@ -139,6 +139,43 @@ class TestCode(unittest.TestCase):
                 if isinstance(node, ast.arg):
                     self.assertNotIn(node.arg, dir(builtins) + BARRED_WORDS, file)
 
+    def test_no_name_of_an_import_or_a_class_is_given_to_a_value(self):
+        for file in FILES:
+            taken = [node.name for node in nodes_of(file) if isinstance(node, ast.ClassDef)]
+            taken += [name.name for node in nodes_of(file) if isinstance(node, ast.ImportFrom) for name in node.names]
+            for node in nodes_of(file):
+                if isinstance(node, ast.Name) and isinstance(node.ctx, ast.Store):
+                    self.assertNotIn(node.id, taken, file)
+                if isinstance(node, ast.arg):
+                    self.assertNotIn(node.arg, taken, file)
+
+    def test_names_are_bound_once_in_a_file(self):
+        for file in FILES:
+            body = ast.parse(read(file)).body
+            names = [step.name for step in body if isinstance(step, (ast.FunctionDef, ast.ClassDef))]
+            names += [target.id for step in body if isinstance(step, ast.Assign) for target in step.targets]
+            names += [name.name for step in body if isinstance(step, ast.ImportFrom) for name in step.names]
+            self.assertEqual(sorted(names), sorted(set(names)), file)
+
+    def test_sets_are_not_passed_on(self):
+        for file in FILES:
+            for node in nodes_of(file):
+                if isinstance(node, (ast.For, ast.comprehension)):
+                    self.assertNotIsInstance(node.iter, (ast.Set, ast.SetComp), file)
+                    self.assertFalse(isinstance(node.iter, ast.Call) and ast.unparse(node.iter.func) == "set", file)
+                if isinstance(node, ast.Return):
+                    self.assertNotIsInstance(node.value, (ast.Set, ast.SetComp), file)
+
+    def test_attributes_and_methods_have_names_of_their_own(self):
+        for file in FILES:
+            for made in nodes_of(file):
+                if isinstance(made, ast.ClassDef):
+                    methods = [step.name for step in made.body if isinstance(step, ast.FunctionDef)]
+                    kept = [node.attr for node in ast.walk(made)
+                            if isinstance(node, ast.Attribute) and isinstance(node.ctx, ast.Store)]
+                    self.assertEqual(sorted(methods), sorted(set(methods)), file)
+                    self.assertEqual([name for name in methods if name in kept], [], file)
+
     def test_methods_of_builtin_values(self):
         own = [node.name for file in FILES for node in nodes_of(file) if isinstance(node, ast.FunctionDef)]
         for file in FILES:

@@ -53,6 +53,13 @@ def outcome(function, *by_place, **by_name):
     return ("returned", plain(result), repr(result))
 
 
+def check_told(case, expected, function, *arguments):
+    """Checks what a call returns, with these arguments and with fresh ones; True is not 1 here."""
+    with case.subTest(arguments=repr(arguments)[-300:]):
+        case.assertEqual(repr(function(*arguments)), repr(expected))
+        case.assertEqual(repr(function(*fresh(arguments))), repr(expected))
+
+
 def check_conventions(case, function, **arguments):
     """Calls by place and by name, twice over, and checks what [A3] asks of the call and of its arguments."""
     before = repr(arguments)
