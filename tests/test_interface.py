@@ -45,6 +45,21 @@ FUNCTIONS = {
         "cost": ["cuts", "price"], "are_good": ["plan", "cuts"], "least_cuts": ["plan", "price", "most"],
     },
     "trees": {"tree": ["plan", "price", "most"], "tree_holds": ["plan", "price", "most", "value"]},
+    "sheets": {
+        "sheet_error": ["value"], "told_sheet": ["plan", "cuts"], "cells": ["sheet"],
+        "plan_of_cells": ["calendar", "days", "names", "numbers", "minutes"], "told_cuts": ["sheet"],
+    },
+    "prices": {
+        "least_row": ["stretches", "places"], "prices_hold": ["stretches", "places", "cost", "value"],
+    },
+    "gathering": {
+        "group_at": ["sheet", "place", "size"], "gathering_error": ["sheet", "value"], "width": ["gathering"],
+        "unfolded": ["sheet", "gathering"], "gathered": ["sheet"], "gathering_prices": ["sheet"],
+    },
+    "paging": {
+        "paging_error": ["sheet", "gathering", "size", "value"], "run_on": ["sheet", "end"],
+        "best_paging": ["sheet", "gathering", "size"], "paging_prices": ["sheet", "gathering", "size"],
+    },
 }
 
 
