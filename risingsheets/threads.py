@@ -107,12 +107,14 @@ def ahead(plan, cuts, side):
     return tuple(sorted(found))
 
 
-def order_of(plan, cuts, side):
-    """The heads of a side in their told order, without those that no order can hold and those behind such ones."""
+def order_by(plan, cuts, side, pairs):
+    """The heads of a side in the told order in which each first head of a pair stands ahead of the second one.
+
+    It lacks those that no order can hold and those behind such ones."""
     parts = parts_of(plan, cuts, KINDS[side][0])
     followers = {head: [] for head in parts}
     waits = {head: 0 for head in parts}
-    for head, other in ahead(plan, cuts, side):
+    for head, other in pairs:
         followers[head].append(other)
         waits[other] += 1
     keys = {head: (minute_of(plan, marks[0]),) + head for head, marks in parts.items()}
@@ -128,3 +130,8 @@ def order_of(plan, cuts, side):
             if waits[other] == 0:
                 free.append(keys[other])
     return tuple(taken)
+
+
+def order_of(plan, cuts, side):
+    """The heads of a side in their told order, without those that no order can hold and those behind such ones."""
+    return order_by(plan, cuts, side, ahead(plan, cuts, side))

@@ -60,6 +60,17 @@ FUNCTIONS = {
         "paging_error": ["sheet", "gathering", "size", "value"], "run_on": ["sheet", "end"],
         "best_paging": ["sheet", "gathering", "size"], "paging_prices": ["sheet", "gathering", "size"],
     },
+    "printing": {"edition_error": ["value"], "edition_text": ["edition"]},
+    "reading": {"read_edition": ["value"]},
+    "staying": {
+        "staying": ["sheet", "plan", "cuts", "side"], "turned": ["sheet", "plan", "cuts", "side"],
+        "kept": ["sheet", "plan", "cuts", "side"], "chains": ["sheet", "plan", "cuts", "side"],
+        "chains_hold": ["sheet", "plan", "cuts", "side", "value"],
+    },
+    "supplements": {
+        "following": ["sheet", "plan", "cuts"], "supplied": ["sheet", "value"], "supplement": ["sheet", "newer"],
+        "supplement_text": ["told"], "read_supplement": ["value"],
+    },
 }
 
 
