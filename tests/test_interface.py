@@ -71,6 +71,24 @@ FUNCTIONS = {
         "following": ["sheet", "plan", "cuts"], "supplied": ["sheet", "value"], "supplement": ["sheet", "newer"],
         "supplement_text": ["told"], "read_supplement": ["value"],
     },
+    "asks": {
+        "trains_from": ["text", "start", "goal", "day"],
+        "following_train": ["text", "start", "goal", "day", "minute"],
+    },
+    "joining": {
+        "turned_plan": ["plan"], "turned_cuts": ["plan", "cuts"], "moved": ["plan", "by"],
+        "together": ["plan", "other"], "only_trains": ["plan", "numbers"], "only_stations": ["plan", "names"],
+        "ahead_of": ["plan", "minute"], "from_on": ["plan", "minute"],
+    },
+}
+
+# For each class the arguments that it is made with, its methods with theirs, and its properties.
+CLASSES = {
+    "benches": ("Bench", ["plan", "cuts"], {
+        "add": ["train"], "drop": ["number"], "change": ["train"], "recut": ["cuts"], "batch": ["edits"], "undo": [],
+        "redo": [], "at": ["version"], "copy": [], "attempt": ["work"], "supplement_since": ["version"],
+    }, ["plan", "cuts", "sheet", "version"]),
+    "shells": ("Shell", [], {"say": ["line"]}, []),
 }
 
 
@@ -110,6 +128,17 @@ class TestErrors(unittest.TestCase):
                 with self.subTest(name=name):
                     self.assertRaises(TypeError, getattr(errors, name))
 
+    def test_each_error_is_none_of_the_others(self):
+        for name, kept in ERRORS.items():
+            error = getattr(errors, name)(*([7] if kept else []))
+            self.assertIsInstance(error, errors.SheetError)
+            self.assertIsInstance(error, ValueError)
+            self.assertEqual([other for other in ERRORS if isinstance(error, getattr(errors, other))], [name])
+
+    def test_errors_keep_nothing_else(self):
+        for name, kept in ERRORS.items():
+            self.assertEqual(vars(getattr(errors, name)(*([7] if kept else []))), {kept: 7} if kept else {})
+
     def test_errors_without_arguments_are_raised_and_caught(self):
         for name, kept in ERRORS.items():
             if kept is None:
@@ -127,6 +156,31 @@ class TestFunctions(unittest.TestCase):
                     function = getattr(importlib.import_module(f"risingsheets.{module}"), name)
                     self.assertEqual(function.__module__, f"risingsheets.{module}")
                     self.assertEqual(list(inspect.signature(function).parameters), arguments)
+
+
+class TestClasses(unittest.TestCase):
+
+    def test_classes_are_defined_in_their_files(self):
+        for module, (name, arguments, _, _) in CLASSES.items():
+            made = getattr(importlib.import_module(f"risingsheets.{module}"), name)
+            self.assertEqual((made.__module__, made.__bases__), (f"risingsheets.{module}", (object,)))
+            self.assertEqual(list(inspect.signature(made).parameters), arguments)
+
+    def test_methods_and_properties_are_defined_in_the_class_itself(self):
+        for module, (name, _, methods, properties) in CLASSES.items():
+            held = vars(getattr(importlib.import_module(f"risingsheets.{module}"), name))
+            for method, arguments in methods.items():
+                with self.subTest(name=name, method=method):
+                    self.assertEqual(list(inspect.signature(held[method]).parameters), ["self"] + arguments)
+            for each in properties:
+                with self.subTest(name=name, property=each):
+                    self.assertIsInstance(held[each], property)
+                    self.assertIsNone(held[each].fset)
+
+    def test_what_signs_stand_for_is_defined_in_the_class_itself(self):
+        held = vars(importlib.import_module("risingsheets.benches").Bench)
+        for name in ("__init__", "__len__", "__getitem__", "__iter__", "__eq__", "__ne__"):
+            self.assertIn(name, held)
 
 
 if __name__ == "__main__":

@@ -9,7 +9,7 @@ PACKAGE = Path(__file__).parent.parent / "risingsheets"
 FILES = sorted(PACKAGE.rglob("*.py"))
 
 BUILTINS = """len range enumerate zip min max sum abs sorted reversed int str bool list tuple dict set isinstance ord
-repr any all divmod map ValueError""".split()
+repr any all divmod map iter property type ValueError""".split()
 
 METHODS = """append clear copy count endswith extend find get index insert isalnum isalpha isdigit islower isspace
 isupper items join keys ljust lower lstrip partition pop remove replace reverse rfind rjust rpartition rsplit rstrip
@@ -133,11 +133,56 @@ class TestCode(unittest.TestCase):
                     if node.id in dir(builtins):
                         self.assertIn(node.id, BUILTINS, file)
                         self.assertIsInstance(node.ctx, ast.Load, file)
-                    self.assertNotIn(node.id, BARRED_WORDS, file)
+                    self.assertNotIn(node.id, [word for word in BARRED_WORDS if word != "type"], file)
                 if isinstance(node, (ast.FunctionDef, ast.ClassDef)):
                     self.assertNotIn(node.name, dir(builtins), file)
                 if isinstance(node, ast.arg):
                     self.assertNotIn(node.arg, dir(builtins) + BARRED_WORDS, file)
+
+    def test_type_stands_for_the_name_of_a_class_alone(self):
+        for file in FILES:
+            nodes = nodes_of(file)
+            named = [node.value.func for node in nodes if isinstance(node, ast.Attribute) and node.attr == "__name__"]
+            self.assertEqual([node for node in nodes if isinstance(node, ast.Name) and node.id == "type"], named, file)
+            self.assertNotIn("(type)", read(file))
+
+    def test_iter_stands_in_iter_methods_alone(self):
+        for file in FILES:
+            nodes = nodes_of(file)
+            steps = [node.body for node in nodes if isinstance(node, ast.FunctionDef) and node.name == "__iter__"]
+            for body in steps:
+                self.assertEqual(len(body), 1, file)
+                self.assertRegex(ast.unparse(body[0]), r"return iter\(self\.[a-z_]+\)")
+            self.assertEqual(len([node for node in nodes if isinstance(node, ast.Name) and node.id == "iter"]),
+                             len(steps))
+
+    def test_own_errors_alone_are_caught(self):
+        made = [node.name for node in nodes_of(PACKAGE / "errors.py") if isinstance(node, ast.ClassDef)]
+        for file in FILES:
+            for node in nodes_of(file):
+                if isinstance(node, ast.ExceptHandler):
+                    self.assertIn(ast.unparse(node.type), made, file)
+                if isinstance(node, ast.Raise) and node.exc is not None:
+                    self.assertIn(ast.unparse(node.exc.func), made, file)
+
+    def test_methods_that_have_the_name_of_a_builtin_values_method(self):
+        own = [node.name for file in FILES for made in nodes_of(file) if isinstance(made, ast.ClassDef)
+               for node in made.body if isinstance(node, ast.FunctionDef)]
+        # With a method add or copy of its own the package calls none of sets, lists and dicts.
+        for file in FILES:
+            for node in nodes_of(file):
+                if isinstance(node, ast.Call) and isinstance(node.func, ast.Attribute):
+                    if node.func.attr in ("add", "discard", "copy", "sort") and file.stem not in ("benches", "shells"):
+                        self.assertNotIn(node.func.attr, own + ["sort"], file)
+
+    def test_no_property_has_the_name_of_an_attribute(self):
+        told = [node.name for file in FILES for node in nodes_of(file) if isinstance(node, ast.FunctionDef)
+                and [ast.unparse(decorator) for decorator in node.decorator_list] == ["property"]]
+        self.assertEqual(sorted(told), ["cuts", "plan", "sheet", "version"])
+        for file in FILES:
+            for node in nodes_of(file):
+                if isinstance(node, ast.Attribute) and isinstance(node.ctx, ast.Store):
+                    self.assertNotIn(node.attr, told, file)
 
     def test_no_name_of_an_import_or_a_class_is_given_to_a_value(self):
         for file in FILES:
