@@ -112,7 +112,7 @@ class Knot:
         """As many places as there are chains, no two of them of pairs that are turned."""
         begins = [place for place, follower in enumerate(self.followers) if follower is None]
         came, _ = reached(self.turns, self.leaders, begins)
-        # From each chain one place: the one up to whose leader, but not to itself, the walk has come.
+        # The walk has gone on from each of these places; a turn between two would have led it to the later one.
         return [place for place, follower in enumerate(self.followers)
                 if place not in came and (follower is None or follower in came)]
 
