@@ -171,7 +171,8 @@ class Web:
             if len(row) == 0:
                 return None
             further = []
-            for step in row:
+            # A copy, as no loop changes what it goes over: the list called further is called row in the next round.
+            for step in list(row):
                 for onward, bit in steps[step]:
                     if not bit & closed and onward not in came:
                         came[onward] = step

@@ -55,7 +55,8 @@ def reached(turns, leaders, begins):
     row = begins
     while len(row) > 0:
         further = []
-        for place in row:
+        # A copy, as no loop changes what it goes over: the list called further is called row in the next round.
+        for place in list(row):
             for onward in turns[place]:
                 if onward not in came:
                     came[onward] = place

@@ -5,6 +5,8 @@ import builtins
 import unittest
 from pathlib import Path
 
+from tests.loops import changing_loops
+
 PACKAGE = Path(__file__).parent.parent / "risingsheets"
 FILES = sorted(PACKAGE.rglob("*.py"))
 
@@ -22,6 +24,54 @@ version_info""".split()
 BARRED_NODES = (
     ast.GeneratorExp, ast.Yield, ast.YieldFrom, ast.Await, ast.AsyncFunctionDef, ast.AsyncFor, ast.AsyncWith,
     ast.Global, ast.Div, ast.MatMult, ast.Import, ast.TryStar, ast.AnnAssign,
+)
+
+# A function of rows, others and box with a loop in its second row that may change what it goes over.
+CHANGING_LOOPS = (
+    "for row in rows:\n        rows.append(row)",
+    "for row in rows:\n        if row:\n            rows.remove(row)\n            return row",
+    "for place, row in enumerate(rows):\n        rows[place] = 1",
+    "for row in rows:\n        for other in others:\n            del rows[0]",
+    "for row, other in zip(others, reversed(rows)):\n        rows.pop()",
+    "for key, row in rows.items():\n        rows[key] = 1",
+    "for key in rows:\n        rows[key] += 1",
+    "for row in rows:\n        rows += [1]",
+    "for row in box.rows:\n        box.rows.clear()",
+    "for row in rows[0]:\n        rows[0].append(row)",
+    "for row in rows if others else others:\n        others.append(row)",
+    "for row in others or rows:\n        rows.append(row)",
+    "told = [rows.pop() for row in rows]",
+    "for row in rows:\n        others.append(row)\n    rows = others",
+    "for row in rows:\n        others.append(row)\n    others = rows",
+    "for row in rows:\n        box.kept.append(row)\n    box.kept = rows",
+    "for row in rows:\n        told.append(row)\n    told = rows\n    told = others",
+    "for row in rows:\n        others.append(row)\n    told = others\n    rows = told",
+    "for row in rows:\n        others.append(row)\n    rows, told = others, rows",
+    "for row in rows:\n        others.append(row)\n    rows = others if box else []",
+    "for row in rows:\n        others[0].append(row)\n    rows = others[0]",
+    "for row in rows:\n        others.append(row)\n    box.append(others)\n    rows = box[-1]",
+    "for row in rows:\n        others.append(row)\n    rows = box.setdefault(1, others)",
+    "for row in rows:\n        others.append(row)\n    for rows in [others]:\n        box = 1",
+    "for row in rows:\n        others.append(row)\n    box.extend([others])\n    rows = box.pop()",
+    "for row in rows:\n        others.append(row)\n    box += [others]\n    rows = box[0]",
+    "for row in rows[0]:\n        others[0].append(row)\n    others = rows",
+    "for row in rows[0]:\n        others[0].append(row)\n    others = list(rows)",
+    "for row in rows:\n        heappush(rows, row)",
+)
+
+# The like, where the loop goes over a list of its own, or changes only others.
+KEEPING_LOOPS = (
+    "for row in list(rows):\n        rows.append(row)",
+    "for row in list(rows):\n        others.append(row)\n    rows = others",
+    "for row in sorted(rows):\n        others.append(row)\n    rows = others",
+    "for row in [row for row in rows]:\n        others.append(row)\n    rows = others",
+    "for row in rows:\n        others.append(row)\n    rows = list(others)",
+    "for row in rows:\n        others.append(rows)",
+    "for row in rows:\n        box.kept.append(row)\n    box.told = rows",
+    "for place in range(len(rows)):\n        rows[place] = 1",
+    "while rows:\n        rows.pop()",
+    "for row in rows:\n        row.append(1)",
+    "told = [others.pop() for row in rows]",
 )
 
 
@@ -227,6 +277,16 @@ class TestCode(unittest.TestCase):
             for node in nodes_of(file):
                 if isinstance(node, ast.Call) and isinstance(node.func, ast.Attribute):
                     self.assertIn(node.func.attr, METHODS + own, file)
+
+    def test_no_loop_changes_what_it_goes_over(self):
+        for file in FILES:
+            self.assertEqual(changing_loops(read(file)), [], file)
+
+    def test_loops_that_change_what_they_go_over_are_found(self):
+        for loop in CHANGING_LOOPS:
+            self.assertEqual(changing_loops("def told(rows, others, box):\n    " + loop + "\n"), [2], loop)
+        for loop in KEEPING_LOOPS:
+            self.assertEqual(changing_loops("def told(rows, others, box):\n    " + loop + "\n"), [], loop)
 
     def test_is_stands_beside_none_true_and_false(self):
         for file in FILES:
